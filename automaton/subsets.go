@@ -7,6 +7,7 @@ import (
 
 	"univocal/api"
 	"univocal/class"
+	"univocal/machine"
 )
 
 // A set is a set of states: state q is a member if bit q%64 of element q/64 is set.
@@ -69,7 +70,7 @@ func Concat(a, b api.DFA) (api.DFA, api.Errno) {
 		return api.DFA{}, err
 	}
 	cells := class.Cells(slices.Concat(a.Classes, b.Classes))
-	left, right := reader(a, cells), reader(b, cells)
+	left, right := machine.Reader(a, cells), machine.Reader(b, cells)
 	enter := func(p int, rest set) cut {
 		if a.Accept[p] {
 			rest = rest.with(0)
@@ -93,7 +94,7 @@ func Star(a api.DFA) (api.DFA, api.Errno) {
 	if err != api.OK {
 		return api.DFA{}, err
 	}
-	next := reader(a, a.Classes)
+	next := machine.Reader(a, a.Classes)
 	step := func(s round, c int) round {
 		open := s.open.targets(next, c)
 		if open.accepting(a) {
@@ -107,9 +108,9 @@ func Star(a api.DFA) (api.DFA, api.Errno) {
 
 // subsets returns the canonical automaton of a subset construction, or ErrBig if one of them has too many states.
 func subsets[S comparable](cells []api.Class, start S, step func(s S, c int) S, accept func(s S) bool) (api.DFA, api.Errno) {
-	m, ok := explore(cells, start, step, accept)
+	m, ok := machine.Explore(cells, start, step, accept)
 	if !ok {
 		return api.DFA{}, api.ErrBig
 	}
-	return canonical(m)
+	return m.Canonical()
 }

@@ -1,4 +1,4 @@
-package automaton
+package machine
 
 import (
 	"univocal/api"
@@ -8,11 +8,11 @@ import (
 // A column contains the targets of all states by one cell.
 type column [api.MaxStates]int
 
-// canonical returns the canonical automaton of the language of m, or ErrBig if it has too many states. Its states are the
+// Canonical returns the canonical automaton of the language of m, or ErrBig if it has too many states. Its states are the
 // blocks of m. They need no further search to number them: least words lead to the first state of a block, in the order of
 // these states, and they consist of least bytes, so that it does not matter that m may have more cells than the result.
-func canonical(m machine) (api.DFA, api.Errno) {
-	block, count := divide(m)
+func (m Machine[S]) Canonical() (api.DFA, api.Errno) {
+	block, count := m.divide()
 	if count > api.MaxStates {
 		return api.DFA{}, api.ErrBig
 	}
@@ -21,14 +21,14 @@ func canonical(m machine) (api.DFA, api.Errno) {
 	for q, b := range block {
 		if b == len(first) {
 			first = append(first, q)
-			d.Accept = append(d.Accept, m.accept[q])
+			d.Accept = append(d.Accept, m.Accept[q])
 		}
 	}
 	number := map[column]int{}
-	for c, cell := range m.cells {
+	for c, cell := range m.Cells {
 		var col column
 		for b, q := range first {
-			col[b] = block[m.next[q][c]]
+			col[b] = block[m.Next[q][c]]
 		}
 		k, known := number[col]
 		if !known {
@@ -46,17 +46,17 @@ func canonical(m machine) (api.DFA, api.Errno) {
 
 // divide returns the block of each state and the number of blocks: states are in different blocks if a word leads from
 // exactly one of them to an accepting state. If there are more than MaxStates blocks, it stops when it knows that.
-func divide(m machine) ([]int, int) {
-	block, count := split(make([]int, len(m.next)), func(q int) int {
-		if m.accept[q] {
+func (m Machine[S]) divide() ([]int, int) {
+	block, count := split(make([]int, len(m.Next)), func(q int) int {
+		if m.Accept[q] {
 			return 1
 		}
 		return 0
 	})
 	for before := 0; before < count && count <= api.MaxStates; {
 		before = count
-		for c := range m.cells {
-			block, count = split(block, func(q int) int { return block[m.next[q][c]] })
+		for c := range m.Cells {
+			block, count = split(block, func(q int) int { return block[m.Next[q][c]] })
 		}
 	}
 	return block, count
