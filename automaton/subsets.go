@@ -108,7 +108,7 @@ func Star(a api.DFA) (api.DFA, api.Errno) {
 
 // subsets returns the canonical automaton of a subset construction, or ErrBig if one of them has too many states.
 func subsets[S comparable](cells []api.Class, start S, step func(s S, c int) S, accept func(s S) bool) (api.DFA, api.Errno) {
-	m, ok := machine.Explore(cells, start, step, accept)
+	m, ok := machine.Explore(cells, start, step, accept, api.MaxSubsets)
 	if !ok {
 		return api.DFA{}, api.ErrBig
 	}

@@ -24,8 +24,8 @@ type Machine[S comparable] struct {
 }
 
 // Explore returns the machine of the states that are reached from start, where step leads from a state by the index of a
-// cell. It reports false if they are more than MaxSubsets.
-func Explore[S comparable](cells []api.Class, start S, step func(s S, c int) S, accept func(s S) bool) (Machine[S], bool) {
+// cell. It reports false if they are more than most.
+func Explore[S comparable](cells []api.Class, start S, step func(s S, c int) S, accept func(s S) bool, most int) (Machine[S], bool) {
 	m := Machine[S]{Cells: cells, States: []S{start}, from: []pair{{}}}
 	number := map[S]int{start: 0}
 	for i := 0; i < len(m.States); i++ {
@@ -41,7 +41,7 @@ func Explore[S comparable](cells []api.Class, start S, step func(s S, c int) S, 
 			}
 			row[c] = k
 		}
-		if len(m.States) > api.MaxSubsets {
+		if len(m.States) > most {
 			return Machine[S]{}, false
 		}
 		m.Next = append(m.Next, row)
@@ -50,11 +50,11 @@ func Explore[S comparable](cells []api.Class, start S, step func(s S, c int) S, 
 	return m, true
 }
 
-// Walk returns the machine of the states of a valid automaton that are reached from its start.
+// Walk returns the machine of the states of an automaton that are reached from its start. The automaton is valid, except that
+// it may have more than MaxStates states.
 func Walk(d api.DFA) Machine[int] {
 	cells := class.Cells(d.Classes)
-	// There are no more than MaxStates states to reach.
-	m, _ := Explore(cells, 0, Reader(d, cells), func(q int) bool { return d.Accept[q] })
+	m, _ := Explore(cells, 0, Reader(d, cells), func(q int) bool { return d.Accept[q] }, len(d.Next))
 	return m
 }
 

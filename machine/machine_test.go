@@ -10,11 +10,11 @@ import (
 	"univocal/machine"
 )
 
-// counter returns the machine whose states are the numbers below n: a leads to the next one, b to the double, everything
-// else to 0.
+// counter returns the machine whose states are the numbers below n, if these are at most 4096: a leads to the next one, b to
+// the double, everything else to 0.
 func counter(n int, accept func(s int) bool) (machine.Machine[int], bool) {
 	cells := class.Cells([]api.Class{class.Of([]byte("a")), class.Of([]byte("b"))})
-	return machine.Explore(cells, 0, func(s, c int) int { return []int{0, s + 1, 2 * s}[c] % n }, accept)
+	return machine.Explore(cells, 0, func(s, c int) int { return []int{0, s + 1, 2 * s}[c] % n }, accept, 4096)
 }
 
 // Explore follows all transitions and numbers the states in the order of their least words.
@@ -40,7 +40,7 @@ func TestExplore(t *testing.T) {
 	}
 }
 
-// Explore stops at more than 4096 states.
+// Explore stops at more states than are allowed.
 func TestExploreLimit(t *testing.T) {
 	none := func(int) bool { return false }
 	if m, ok := counter(4096, none); !ok || len(m.States) != 4096 || len(m.Next) != 4096 || len(m.Accept) != 4096 {
@@ -71,6 +71,18 @@ func TestCanonical(t *testing.T) {
 
 func same(a, b api.DFA) bool {
 	return slices.Equal(a.Classes, b.Classes) && slices.EqualFunc(a.Next, b.Next, slices.Equal) && slices.Equal(a.Accept, b.Accept)
+}
+
+// Walk follows more states than an automaton may have.
+func TestWalkLong(t *testing.T) {
+	d := api.DFA{Classes: class.Cells(nil), Accept: make([]bool, 5000)}
+	for q := range d.Accept {
+		d.Next = append(d.Next, []int{min(q+1, 4999)})
+	}
+	d.Accept[4999] = true
+	if w, some := machine.Walk(d).Least(); !some || len(w) != 4999 {
+		t.Errorf("least word: %d bytes, %v", len(w), some)
+	}
 }
 
 // Walk leaves out the states that are not reached; Reader reads divided classes.

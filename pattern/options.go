@@ -116,7 +116,7 @@ func lazy(a, b api.DFA) ([]option, api.Errno) {
 		}
 		return to
 	}
-	m, ok := machine.Explore(cells, split{}, step, func(s split) bool { return a.Accept[s.word] })
+	m, ok := machine.Explore(cells, split{}, step, func(s split) bool { return a.Accept[s.word] }, api.MaxSubsets)
 	if !ok {
 		return nil, api.ErrBig
 	}
