@@ -13,15 +13,20 @@ func Check(s api.Scope) api.Errno {
 	if !Valid(s) {
 		return api.ErrArg
 	}
+	if Size(s) > api.MaxWords {
+		return api.ErrBig
+	}
+	return api.OK
+}
+
+// Size returns the number of words of a valid scope.
+func Size(s api.Scope) int {
 	words, longest := 1, 1
 	for range s.Most {
 		longest *= len(s.Alphabet)
 		words += longest
 	}
-	if words > api.MaxWords {
-		return api.ErrBig
-	}
-	return api.OK
+	return words
 }
 
 // Valid reports whether a scope is valid.

@@ -36,6 +36,22 @@ func TestCheck(t *testing.T) {
 	}
 }
 
+// Size is the number of words, also if it is more than 4096.
+func TestSize(t *testing.T) {
+	for _, c := range []struct {
+		alphabet string
+		most     int
+		want     int
+	}{
+		{"a", 0, 1}, {"abcd", 0, 1}, {"a", 8, 9}, {"ab", 3, 15}, {"\x00\xff", 8, 511}, {"abc", 7, 3280}, {"abc", 8, 9841}, {"abcd", 5, 1365}, {"abcd", 8, 87381},
+	} {
+		s := api.Scope{Alphabet: []byte(c.alphabet), Most: c.most}
+		if n := scope.Size(s); n != c.want || len(all(s)) != c.want {
+			t.Errorf("%q, %d: %d", c.alphabet, c.most, n)
+		}
+	}
+}
+
 // Words enumerates all words in shortlex order.
 func TestWords(t *testing.T) {
 	for _, c := range []struct {
